@@ -1,0 +1,1 @@
+"""Whatindex: an advisor of indexes over stores of unlike kinds."""
