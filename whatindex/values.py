@@ -32,6 +32,11 @@ def is_value(kind, thing):
     return kind == "word" and is_word(thing)
 
 
+def is_between(value, low, high):
+    """Whether a value is within two bounds, each of which may be None."""
+    return (low is None or low <= value) and (high is None or value <= high)
+
+
 def is_column(thing):
     """Whether a thing is a column of a form: (name, kind)."""
     if not isinstance(thing, tuple) or len(thing) != 2:
