@@ -4,6 +4,7 @@ import inspect
 import random
 import unittest
 
+from tests.models import PlainBuckets
 from whatindex.buckets import Buckets
 from whatindex.values import mark
 
@@ -12,42 +13,6 @@ from whatindex.values import mark
 
 def thing(value, number):
     return ((value,), number)
-
-
-class PlainBuckets:
-    """The document's words on buckets, followed one by one and slowly."""
-
-    def __init__(self, count, most):
-        self.count = count
-        self.most = most
-        self.all = [[] for _ in range(count)]
-
-    def put(self, thing):
-        pages = self.all[mark(thing[0]) % self.count]
-        touched = 0
-        for page in pages:
-            touched += 1
-            if len(page) < self.most:
-                page.append(thing)
-                return touched + 1
-        pages.append([thing])
-        return touched + 1
-
-    def drop(self, thing):
-        pages = self.all[mark(thing[0]) % self.count]
-        touched = 0
-        for page in pages:
-            touched += 1
-            if thing in page:
-                page.remove(thing)
-                if page == []:
-                    pages.remove(page)
-                return touched + 1
-        raise AssertionError("the thing isn't there")
-
-    def found(self, values):
-        pages = self.all[mark(values) % self.count]
-        return [thing for page in pages for thing in page if thing[0] == values], len(pages)
 
 
 class MadeTest(unittest.TestCase):

@@ -4,6 +4,7 @@ import inspect
 import random
 import unittest
 
+from tests.models import PlainRun
 from whatindex.runs import Run
 
 
@@ -14,70 +15,6 @@ def ones(numbers):
 
 def values_of(leaves):
     return [[values[0] for values, number in leaf] for leaf in leaves]
-
-
-class PlainRun:
-    """The document's words on runs, followed one by one and slowly."""
-
-    def __init__(self, most, fan, things):
-        self.most = most
-        self.fan = fan
-        self.all = []
-        rest = sorted(things)
-        while rest:
-            self.all.append(rest[:most])
-            rest = rest[most:]
-
-    def levels(self):
-        def told(many):
-            return 0 if many <= 1 else 1 + told(-(-many // self.fan))
-        return told(len(self.all))
-
-    def pages(self):
-        def told(many):
-            return many if many <= 1 else many + told(-(-many // self.fan))
-        return told(len(self.all))
-
-    def put(self, thing):
-        if not self.all:
-            self.all = [[thing]]
-            return 1
-        touched = self.levels() + 1 + 1
-        lesser = [at for at, leaf in enumerate(self.all) if leaf[0] < thing]
-        at = lesser[-1] if lesser else 0
-        leaf = self.all[at]
-        leaf.append(thing)
-        leaf.sort()
-        if len(leaf) > self.most:
-            touched += 1
-            many = (len(leaf) + 1) // 2
-            self.all.insert(at + 1, leaf[many:])
-            del leaf[many:]
-        return touched
-
-    def drop(self, thing):
-        touched = self.levels() + 1 + 1
-        for leaf in self.all:
-            if thing in leaf:
-                leaf.remove(thing)
-        self.all = [leaf for leaf in self.all if leaf]
-        return touched
-
-    def parts(self, same, low, high):
-        told = []
-        for leaf in self.all:
-            part = []
-            for values, number in leaf:
-                if values[:len(same)] != same:
-                    continue
-                if low is not None and values[len(same)] < low:
-                    continue
-                if high is not None and values[len(same)] > high:
-                    continue
-                part.append((values, number))
-            if part:
-                told.append(part)
-        return told
 
 
 class MadeTest(unittest.TestCase):
