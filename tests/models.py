@@ -1,7 +1,9 @@
-"""The document's words on stages 2 to 5, followed one by one and slowly.
+"""The document's words on stages 2 to 6, followed one by one and slowly.
 
 The tests hold the program against these, deed by deed.
 """
+
+import copy
 
 from whatindex.values import mark
 
@@ -382,3 +384,48 @@ class PlainWays:
 
     def told(self):
         return [(way, self.touched(way)) for way in self.names()]
+
+
+def plain_ask(store, item):
+    """The ask by which the rows of an item, but of a put, are found."""
+    return item[1] if item[0] == "ask" else (tuple(store.names), item[1], (), None)
+
+
+def plain_deed(store, index, item):
+    """What a store, or an index of it, touches by the edit of an item; both are changed by it."""
+    word = item[0]
+    if word == "ask":
+        return 0
+    if word == "put":
+        number, touched = store.put(item[1])
+        return touched if index is None else index.put(number, store.rows[number])
+    touched = 0
+    for number in sorted(store.rows):
+        row = dict(store.rows[number])
+        if not all(meets(each, row) for each in item[1]):
+            continue
+        if word == "drop":
+            pages = store.drop(number)
+            touched += pages if index is None else index.drop(number, row)
+        else:
+            pages = store.change(number, item[2], item[3])
+            touched += pages if index is None else index.change(number, row, item[2], item[3])
+    return touched
+
+
+def plain_cost(store, indexes, item):
+    """Point 20, on copies of its own."""
+    finding = 0
+    if item[0] != "put":
+        finding = min(touched for _, touched in PlainWays(store, indexes, plain_ask(store, item)).told())
+    edited = plain_deed(copy.deepcopy(store), None, item)
+    return finding, edited, [plain_deed(copy.deepcopy(store), copy.deepcopy(index), item) for index in indexes]
+
+
+def plain_offers(store, indexes, item):
+    """Point 20's offers."""
+    if item[0] == "put":
+        return [(0, ())]
+    designs = [index.design for index in indexes]
+    told = PlainWays(store, indexes, plain_ask(store, item)).told()
+    return [(touched, tuple(sorted(designs.index(design) for design in way[1:]))) for way, touched in told]

@@ -8,6 +8,12 @@ class Bits:
         self.width = width
         self.by_value = {}
 
+    def twin(self):
+        """Bits that lie just so, sharing no list with these."""
+        other = Bits(self.width)
+        other.by_value = {value: list(self.by_value[value]) for value in self.by_value}
+        return other
+
     def stretch_of(self, number):
         """The place, from 0, of the stretch of numbers that has this one."""
         return (number - 1) // self.width

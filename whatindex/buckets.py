@@ -11,6 +11,12 @@ class Buckets:
         self.most = most
         self.chains = [[] for at in range(count)]
 
+    def twin(self):
+        """Buckets that lie just so, sharing no list with these."""
+        other = Buckets(count=len(self.chains), most=self.most)
+        other.chains = self.pages()
+        return other
+
     def chain_at(self, values):
         """The place of the bucket of these values."""
         return mark(values) % len(self.chains)

@@ -6,6 +6,12 @@ def column_names(form):
     return tuple([name for name, kind in form])
 
 
+def kind_of(form, thing):
+    """The kind of the column that has this name, None where none has."""
+    kinds = [kind for name, kind in form if name == thing]
+    return kinds[0] if kinds else None
+
+
 def are_columns(form, thing, least, most):
     """Whether a thing is a tuple of so many unlike names of a form's columns."""
     if not isinstance(thing, tuple) or not least <= len(thing) <= most:

@@ -1,5 +1,6 @@
 """Conditions: what they are, and which values meet them."""
 
+from whatindex.columns import column_names, kind_of
 from whatindex.values import is_between, is_value
 
 MOST_CONDITIONS = 6
@@ -16,12 +17,12 @@ def is_condition(form, thing):
     """Whether a thing is a condition on a column of a form."""
     if not isinstance(thing, tuple) or len(thing) not in (3, 4):
         return False
-    kinds = [kind for name, kind in form if name == thing[0]]
-    if not kinds:
+    kind = kind_of(form, thing[0])
+    if kind is None:
         return False
     if len(thing) == 3:
-        return thing[1] == "is" and is_value(kinds[0], thing[2])
-    return thing[1] == "from" and are_bounds(kinds[0], thing[2], thing[3])
+        return thing[1] == "is" and is_value(kind, thing[2])
+    return thing[1] == "from" and are_bounds(kind, thing[2], thing[3])
 
 
 def are_conditions(form, thing):
@@ -48,3 +49,9 @@ def meets(condition, value):
 def fits(limits, columns, values):
     """Whether values meet all conditions, as `by_column` tells them, on the columns that they stand under."""
     return all([meets(limits[column], value) for column, value in zip(columns, values) if column in limits])
+
+
+def meeting(store, limits):
+    """The numbers of a store's rows that meet all conditions, as `by_column` tells them, rising."""
+    columns = column_names(store.form)
+    return [number for number, row in store.all_rows() if fits(limits, columns, row)]

@@ -10,6 +10,12 @@ class Heap:
         self.most = most
         self.held = []
 
+    def twin(self):
+        """A heap that lies just so, sharing no list with this one."""
+        other = Heap(self.most)
+        other.held = copied(self.held)
+        return other
+
     def put(self, thing):
         """Put a thing: the pages touched."""
         at = first_with_room(self.held, self.most)

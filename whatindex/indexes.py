@@ -55,6 +55,12 @@ class Index:
         things = [self.thing_of(number, row) for number, row in store.all_rows()]
         self.holder = holder_of(store.shape, design[0], things)
 
+    def twin(self, bare):
+        """An index that lies just so, sharing nothing that changes with this one; `bare` is a store like its own."""
+        other = Index(bare, self.design)
+        other.holder = self.holder.twin()
+        return other
+
     def thing_of(self, number, row):
         """The thing that stands for a row in the index."""
         return picked(self.columns, row, self.design[1]), number

@@ -11,20 +11,16 @@ def packed(things, most):
 
 def levels_over(leaves, fan):
     """How many levels stand over so many leaves."""
-    many = 0
-    while leaves > 1:
-        leaves = begun(leaves, fan)
-        many += 1
-    return many
+    if leaves <= 1:
+        return 0
+    return 1 + levels_over(begun(leaves, fan), fan)
 
 
 def pages_over(leaves, fan):
     """How many pages so many leaves are, with those of all levels over them."""
-    many = leaves
-    while leaves > 1:
-        leaves = begun(leaves, fan)
-        many += leaves
-    return many
+    if leaves <= 1:
+        return leaves
+    return leaves + pages_over(begun(leaves, fan), fan)
 
 
 def is_in_stretch(values, same, low, high):
@@ -45,6 +41,12 @@ class Run:
         self.most = most
         self.spread = fan
         self.held = packed(sorted(things), most)
+
+    def twin(self):
+        """A run that lies just so, sharing no list with this one."""
+        other = Run(most=self.most, fan=self.spread)
+        other.held = copied(self.held)
+        return other
 
     def leaf_for(self, thing):
         """The place of the last leaf that begins with the thing or a lesser one, else of the first."""

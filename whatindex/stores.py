@@ -63,16 +63,32 @@ class Store:
         self.by_number = {}
         self.given = 0
 
+    def twin(self):
+        """A store that lies just so, sharing nothing that changes with this one."""
+        other = Store(self.shape, self.form, self.kind, key=self.key)
+        other.holder = self.holder.twin()
+        other.by_number = dict(self.by_number)
+        other.given = self.given
+        return other
+
     def thing_of(self, number):
         """The thing that stands for a row in the store's pages; in a heap it has no values."""
         return picked(column_names(self.form), self.by_number[number], self.key), number
 
     def put(self, row):
         """Put a row: its number and the pages touched."""
+        self.check(row)
+        return self.lay(row)
+
+    def check(self, row):
+        """Refuse what can't be put now."""
         if not is_row(self.form, row):
             raise NoRow("the thing is no row of the form")
         if self.given >= MOST_ROWS:
             raise TooMany("all numbers of rows are given")
+
+    def lay(self, row):
+        """Put a row whatever numbers are gone, as it is told what one more would cost."""
         self.given += 1
         self.by_number[self.given] = row
         return self.given, self.holder.put(self.thing_of(self.given))

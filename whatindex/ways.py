@@ -2,7 +2,7 @@
 
 from whatindex.asks import settled
 from whatindex.columns import column_names
-from whatindex.conditions import by_column, fits, meets
+from whatindex.conditions import by_column, fits, meeting, meets
 from whatindex.errors import NoWay
 from whatindex.pages import begun
 from whatindex.stretches import are_fixed, gives_order, lead, stretch
@@ -23,7 +23,7 @@ class Search:
         self.by_number = {number: row for number, row in store.all_rows()}
         self.lists = store.pages()
         self.place_of = {number: at for at, page in enumerate(self.lists) for number in page}
-        self.meeting = [number for number, row in store.all_rows() if fits(self.limits, self.columns, row)]
+        self.met = meeting(store, self.limits)
         # Two ways by one index, and each pair with it, come by the same rows.
         self.reached = {}
 
@@ -72,7 +72,7 @@ def told_ways(search):
 def sorting(search):
     """The pages touched by bringing the rows that are found into the order."""
     size = search.store.shape.rows
-    many = len(search.meeting)
+    many = len(search.met)
     if search.order == () or many <= size:
         return 0
     return 2 * begun(many, size)
@@ -108,7 +108,7 @@ def go_along(search, holder, columns, most):
         leaves = leaf
         if fits(search.limits, columns, thing[0]):
             come.append(thing)
-            if thing[1] in search.meeting:
+            if thing[1] in search.met:
                 met += 1
             if met == most:
                 break
