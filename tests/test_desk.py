@@ -206,6 +206,8 @@ class NoSayingTest(DeskTest):
                     self.refused(desk, NoSaying, " ".join(words[:-1]))
         for row in ("steps", "watch", "watch t", "watch t 5", "watch t 5 ask", "watch t 5 ask a - -", "watch t 5 put"):
             self.refused(desk, NoSaying, row)
+        for row in ("watch t 5 ", "watch t 5 get", "watch t 5 5", "watch t 5 -", "watch t 5 made"):
+            self.refused(desk, NoSaying, row)
 
     def test_an_item_of_another_word(self):
         desk = full()

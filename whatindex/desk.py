@@ -71,7 +71,8 @@ def read_named(advisor, text):
 
 def show_named(named):
     """The text of a design with its table, (table, kind, columns)."""
-    return f"{named[0]}:{show_design(named[1:])}"
+    table, kind, columns = named
+    return f"{table}:{show_design((kind, columns))}"
 
 
 def listed(parts):
@@ -171,7 +172,8 @@ def say_spent(advisor, words):
 def say_advise(advisor, words):
     """The best designs among the candidates are told."""
     designs, least, paper = advisor.advise(room=int(words[1]))
-    return f"{least} {listed([show_named(named) for named in designs])}"
+    chosen = listed([show_named(named) for named in designs])
+    return f"{least} {chosen}"
 
 
 def say_steps(advisor, words):
